@@ -1,0 +1,1 @@
+"""The tests of evenpace; run them with .ci/run."""

@@ -58,7 +58,10 @@ def relation(reach, at, scaled, modulus):
 
 
 def congruence_basis(values):
-    """Return a basis of the rows of integers whose products with the values sum to an integer."""
+    """Return a basis of the rows of integers whose products with the values sum to an integer.
+
+    The basis is triangular: row number k has a positive entry at place k and zeros behind it.
+    """
     modulus = common_denominator(values)
     reach = first_reach(values, modulus)
     basis = []

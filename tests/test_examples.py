@@ -55,5 +55,5 @@ class Examples(unittest.TestCase):
 
     def test_examples_are_found(self):
         found = {name: len(examples(text)) for name, text in sections()}
-        for name in ("rationals.py", "lattices.py"):
+        for name in ("rationals.py", "lattices.py", "gates.py", "roads.py", "steps.py"):
             self.assertGreater(found[name], 0)

@@ -97,6 +97,39 @@ class Form(unittest.TestCase):
             if isinstance(node, ast.Name) and node.id in vars(builtins):
                 self.assertIn(node.id, BUILTINS, where)
 
+    def test_names_of_imports_and_classes_are_free_of_locals(self):
+        for name, tree in TREES.items():
+            taken = {alias.asname or alias.name for node in tree.body if isinstance(node, ast.ImportFrom)
+                     for alias in node.names}
+            taken |= {node.name for node in tree.body if isinstance(node, ast.ClassDef)}
+            for function in ast.walk(tree):
+                if isinstance(function, (ast.FunctionDef, ast.Lambda)):
+                    for node in ast.walk(function):
+                        if isinstance(node, (ast.Name, ast.arg)):
+                            self.assertFalse(taken & set(names_of(node)), f"{name}.py:{node.lineno}")
+
+    def test_no_two_files_import_each_other(self):
+        above = {name: {node.module.split(".")[1] for node in tree.body if isinstance(node, ast.ImportFrom)}
+                 for name, tree in TREES.items()}
+        while above:
+            free = [name for name in above if not above[name] & set(above)]
+            self.assertNotEqual(free, [], above)
+            above = {name: needed for name, needed in above.items() if name not in free}
+
+    def test_methods_and_attributes_differ(self):
+        methods = {inner.name for node, where in nodes(ast.ClassDef) for inner in node.body
+                   if isinstance(inner, ast.FunctionDef)}
+        stored = {node.attr for node, where in nodes(ast.Attribute) if isinstance(node.ctx, ast.Store)}
+        self.assertEqual(methods & stored, set())
+
+    def test_nothing_is_iterated_late(self):
+        # A class has __eq__, so any, all and the like take lists; zip and the like are not stored.
+        for node, where in nodes(ast.GeneratorExp):
+            self.fail(where)
+        for node, where in nodes((ast.Assign, ast.Return)):
+            called = getattr(getattr(node.value, "func", None), "id", None)
+            self.assertNotIn(called, ("zip", "enumerate", "reversed", "range"), where)
+
     def test_attributes(self):
         own = {node.name for node, where in nodes(ast.FunctionDef)}
         own |= {node.attr for node, where in nodes(ast.Attribute) if isinstance(node.ctx, ast.Store)}

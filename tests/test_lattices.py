@@ -64,6 +64,10 @@ class Basis(Lattices):
             self.assertEqual(combined(row, values).denominator, 1)
         # The rows of integers with an integer combination have this index among all rows.
         self.assertEqual(abs(determinant(rows)), least_multiple(values))
+        # The steps of a road rely on the triangular form.
+        for at, row in enumerate(rows):
+            self.assertGreater(row[at], 0)
+            self.assertFalse(any(row[at + 1:]))
         self.assertEqual(given, [pair(value) for value in values])
         self.assertEqual(congruence_basis(tuple(given)), rows)
 

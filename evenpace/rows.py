@@ -1,0 +1,3 @@
+"""Rows of windows."""
+
+MAX_ROWS = 500

@@ -1,7 +1,7 @@
 """Gates as tuples (place, period, spans), the windows between their spans, and their texts."""
 
 from evenpace.errors import InvalidGate, NotBarring
-from evenpace.lattices import common_denominator
+from evenpace.lattices import common_denominator, whole
 from evenpace.rationals import (
     ONE, ZERO, add, divide, floor_of, format_fraction, fraction, is_less, multiply, remainder, subtract)
 
@@ -11,7 +11,7 @@ MAX_SPANS = 6
 def in_order(rows):
     """Return tuples that begin with a fraction in ascending order of these fractions."""
     common = common_denominator([row[0] for row in rows])
-    return sorted(rows, key=lambda row: row[0][0] * (common // row[0][1]))
+    return sorted(rows, key=lambda row: whole(row[0], common))
 
 
 def span_ends(spans):

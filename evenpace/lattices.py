@@ -24,9 +24,14 @@ def common_denominator(values):
     return result
 
 
+def whole(value, common):
+    """Return the numerator of a fraction over a multiple of its denominator."""
+    return value[0] * (common // value[1])
+
+
 def scaled_values(values, modulus):
     """Return the numerators over the denominator modulus, each without its integer part."""
-    return [num * (modulus // den) % modulus for num, den in values]
+    return [whole(value, modulus) % modulus for value in values]
 
 
 # A reach is a pair (divisor, row): what integer combinations of the first scaled values give,
@@ -80,7 +85,7 @@ def congruence_solution(values, target):
     reach = first_reach(values, modulus)
     for at, scaled in enumerate(scaled_values(values, modulus)):
         reach = next_reach(reach, at, scaled, modulus)
-    times = target[0] * (modulus // target[1])
+    times = whole(target, modulus)
     return [entry * times % modulus for entry in reach[1]]
 
 
@@ -89,8 +94,8 @@ def floor_sum(count, slope, offset):
     if count < 0:
         raise InvalidCount(count)
     den = common_denominator([slope, offset])
-    rise = slope[0] * (den // slope[1])
-    base = offset[0] * (den // offset[1])
+    rise = whole(slope, den)
+    base = whole(offset, den)
     result = 0
     while True:
         result += count * (count - 1) // 2 * (rise // den) + count * (base // den)

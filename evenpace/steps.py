@@ -25,8 +25,8 @@ def where_integer(triple, form):
     # The rows are triangular, as congruence_basis says: (m, 0) and (along, across).
     first, (along, across) = congruence_basis(worths)
     wider = multiply((first[0], 1), wide)
-    moved = add(multiply((along, 1), wide), multiply((across, 1), shift))
-    return (wider, remainder(moved, wider), multiply((across, 1), high))
+    beside = add(multiply((along, 1), wide), multiply((across, 1), shift))
+    return (wider, remainder(beside, wider), multiply((across, 1), high))
 
 
 def coarse_triple(one, other):
@@ -69,10 +69,29 @@ def is_step(road, pair):
     return all([divide(moment_at(pair, place), period)[1] == 1 for place, period, spans in gates])
 
 
+def cell_shift(base, walker):
+    """Return the numbers of both base steps, along and across, that lead from the base cell to a walker."""
+    first, second = base
+    start, slowness = walker
+    across = floor_of(divide(slowness, second[1]))
+    left = subtract(start, multiply((across, 1), second[0]))
+    return (floor_of(divide(left, first[0])), across)
+
+
+def combined_step(base, along, across):
+    """Return the step made of so many of both base steps."""
+    first, second = base
+    x = add(multiply((along, 1), first[0]), multiply((across, 1), second[0]))
+    return (x, multiply((across, 1), second[1]))
+
+
+def moved(walker, step):
+    """Return a walker moved by a step."""
+    return (add(walker[0], step[0]), add(walker[1], step[1]))
+
+
 def in_cell(road, walker):
     """Return the walker of the base cell that differs from a walker by a step."""
-    first, second = steps(road)
-    start, slowness = walker
-    across = (floor_of(divide(slowness, second[1])), 1)
-    moved = subtract(start, multiply(across, second[0]))
-    return (remainder(moved, first[0]), remainder(slowness, second[1]))
+    base = steps(road)
+    along, across = cell_shift(base, walker)
+    return moved(walker, combined_step(base, -along, -across))

@@ -9,6 +9,9 @@ from evenpace import errors
 
 DOCUMENT = pathlib.Path(__file__).resolve().parents[2] / "shared" / "DOC.md"
 PACKAGE = pathlib.Path(evenpace.__file__).parent
+NAMES = (
+    "rationals.py", "lattices.py", "gates.py", "roads.py", "steps.py", "pieces.py", "starts.py", "shadows.py",
+    "closures.py")
 
 
 def sections():
@@ -55,5 +58,5 @@ class Examples(unittest.TestCase):
 
     def test_examples_are_found(self):
         found = {name: len(examples(text)) for name, text in sections()}
-        for name in ("rationals.py", "lattices.py", "gates.py", "roads.py", "steps.py"):
+        for name in NAMES:
             self.assertGreater(found[name], 0)

@@ -18,12 +18,17 @@ def crossed_gates(road):
     return gates
 
 
+def base_worths(triple, form):
+    """Return the worths of a form at the two pairs that a triple stands for."""
+    wide, shift, high = triple
+    return [multiply(form[0], wide), add(multiply(form[0], shift), multiply(form[1], high))]
+
+
 def where_integer(triple, form):
     """Return the triple for those combinations of a triple at which a form is an integer."""
     wide, shift, high = triple
-    worths = [multiply(form[0], wide), add(multiply(form[0], shift), multiply(form[1], high))]
     # The rows are triangular, as congruence_basis says: (m, 0) and (along, across).
-    first, (along, across) = congruence_basis(worths)
+    first, (along, across) = congruence_basis(base_worths(triple, form))
     wider = multiply((first[0], 1), wide)
     beside = add(multiply((along, 1), wide), multiply((across, 1), shift))
     return (wider, remainder(beside, wider), multiply((across, 1), high))

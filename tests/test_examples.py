@@ -11,7 +11,7 @@ DOCUMENT = pathlib.Path(__file__).resolve().parents[2] / "shared" / "DOC.md"
 PACKAGE = pathlib.Path(evenpace.__file__).parent
 NAMES = (
     "rationals.py", "lattices.py", "gates.py", "roads.py", "steps.py", "pieces.py", "starts.py", "shadows.py",
-    "closures.py")
+    "closures.py", "lateness.py", "yard.py", "texts.py", "desk.py")
 
 
 def sections():

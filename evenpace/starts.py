@@ -104,10 +104,16 @@ def count_copies(base, corner, starts, slownesses):
     return low - top
 
 
+def is_empty(bounds):
+    """Return whether nothing lies between a low and a high."""
+    low, high = bounds
+    return not is_less(low, high)
+
+
 def count_pieces(road, starts, slownesses):
     """Return how many copies of pieces have their first corner in a box."""
     course = Course(road)
     found = course_pieces(course)
-    if not is_less(*starts) or not is_less(*slownesses):
+    if is_empty(starts) or is_empty(slownesses):
         return 0
     return sum([count_copies(course.base, shape[0], starts, slownesses) for row, shape in found])

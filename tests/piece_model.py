@@ -204,3 +204,12 @@ def wide_pair_road(first, second, period):
 def some_notches(many):
     """So many spans in a period of 1 that do not repeat earlier."""
     return [(Fraction(k, many), Fraction(1, 2 * many + 2 * k)) for k in range(many)]
+
+
+def crowded_road():
+    """A road of eight gates with hundreds of pieces, just not too wide."""
+    plans = []
+    for k in range(8):
+        begins = sorted([(Fraction(k * k, 15) + shift) % 1 for shift in (Fraction(0), Fraction(3, 8), Fraction(5, 7))])
+        plans.append((Fraction(k), Fraction(1), [(begin, Fraction(1, 30)) for begin in begins]))
+    return Road([gate_of(plan) for plan in plans])

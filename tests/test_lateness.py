@@ -187,7 +187,9 @@ class Unlike(unittest.TestCase):
             second = Road(changed)
             places = [plan[0] for plan, gate in zip(plans, second.gates()) if phase_of(plan, plan_of(gate)) is None]
             kind, told = lateness(road, second)
-            self.assertEqual((kind, told) if kind == "unlike" else None, ("unlike", pair(places[0])) if places else None)
+            self.assertIs(kind == "unlike", len(places) > 0)
+            if places:
+                self.assertEqual(told, pair(places[0]))
             unlike += kind == "unlike"
         self.assertGreater(unlike, 20)
 

@@ -10,8 +10,8 @@ from evenpace.pieces import passage, piece_at, pieces, share
 from evenpace.roads import Road
 from tests.gate_samples import gate_of, is_shut, pair_of, plain, plan_of, some_road, some_walker
 from tests.piece_model import (
-    Wide, base_of, calm_road, calm_roads, fine_road, fractions_of, model_pieces, narrow_roads, plans_of, two_plain,
-    wide_pair_road, window_of)
+    Wide, base_of, calm_road, calm_roads, crowded_road, fine_road, fractions_of, model_pieces, narrow_roads, plans_of,
+    two_plain, wide_pair_road, window_of)
 from tests.samples import is_plain_fraction, mixed, pair, source, worth
 
 WALKER = ((1, 3), (2, 5))
@@ -120,6 +120,15 @@ class Pieces(unittest.TestCase):
         self.assertEqual(fractions_of(pieces(road)), model_pieces(road))
         self.assertEqual(len(pieces(road)), 36)
 
+    def test_hundreds_of_pieces(self):
+        road = crowded_road()
+        found = model_pieces(road)
+        self.assertGreater(len(found), 400)
+        self.assertEqual(fractions_of(pieces(road)), found)
+        self.assertEqual(worth(share(road)), sum([area_of(corners) for row, corners in found]))
+        for index in (0, 200, len(found) - 1):
+            self.assertEqual(piece_at(road, pair_of(found[index][1][-1])), (index, 0, 0))
+
     def test_windows_with_equal_ends(self):
         # Both gates are open at integers only, so the only walker of each piece is one point.
         road = Road([((0, 1), (1, 1), (((0, 1), (1, 1)),)), ((1, 1), (1, 1), (((0, 1), (1, 1)),))])
@@ -134,8 +143,10 @@ class Pieces(unittest.TestCase):
         self.assertEqual(share(more), share(road))
 
     def test_large_numbers(self):
-        plans = [(Fraction(999999999989, 7), Fraction(123456789012, 999999999877), [(Fraction(1, 10 ** 11), Fraction(1, 9))])]
-        plans += [(Fraction(-1, 999999999988), Fraction(5), [(Fraction(1, 3), Fraction(1)), (Fraction(2), Fraction(2))])]
+        spans = [(Fraction(1, 10 ** 11), Fraction(1, 9))]
+        plans = [(Fraction(999999999989, 7), Fraction(123456789012, 999999999877), spans)]
+        spans = [(Fraction(1, 3), Fraction(1)), (Fraction(2), Fraction(2))]
+        plans.append((Fraction(-1, 999999999988), Fraction(5), spans))
         road = Road([gate_of(plan) for plan in plans])
         self.assertEqual(fractions_of(pieces(road)), model_pieces(road))
 

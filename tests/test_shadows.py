@@ -11,7 +11,8 @@ from evenpace.roads import Road
 from evenpace.shadows import exception, is_inside, is_tight, needless, shadow, tightest
 from tests.gate_samples import gate_of, is_normal, is_shut, large_road, plain, plan_of, some_gates, some_road
 from tests.piece_model import (
-    Wide, base_of, calm_road, clipped_rows, fine_road, fractions_of, narrow_roads, plans_of, two_plain, wide_pair_road)
+    Wide, base_of, calm_road, clipped_rows, crowded_road, fine_road, fractions_of, narrow_roads, plans_of, two_plain,
+    wide_pair_road)
 from tests.samples import pair, small, source, worth
 
 NOBODY = Road([((k, 1), (1, 1), (((k % 2, 4), (1, 1)),)) for k in range(3)])
@@ -110,6 +111,14 @@ class Shadows(unittest.TestCase):
         for road in narrow_roads(rng, 14):
             for place in (Fraction(999999999989), Fraction(-1, 999999999999), Fraction(999999999999, 999999999998)):
                 self.check(road, place)
+
+    def test_hundreds_of_pieces(self):
+        road = crowded_road()
+        for place in (Fraction(3), Fraction(1, 2), Fraction(-999999999989)):
+            self.check(road, place)
+        self.assertEqual(tightest(road), [shadow(road, place) for place in road.places()])
+        self.assertIs(is_inside(road, road), True)
+        self.assertEqual(needless(road), [])
 
     def test_one_moment_in_a_period(self):
         # Only the moments 0, 1, 2 .. are open, so the span is as long as the period.
@@ -240,15 +249,16 @@ class Exceptions(unittest.TestCase):
         self.assertIsNone(exception(other=Road([]), road=road))
 
     def test_a_single_walker_too_many(self):
-        # The windows of the first road are points; the other road's gate is shut at one moment of thousands.
+        # The windows of the first road are points; the other road's gate is shut at one of their many moments.
         road = Road([((k, 1), (1, 1), (((0, 1), (1, 1)),)) for k in range(2)])
-        for period in (997, 10 ** 12 - 11):
-            other = Road([((0, 1), (period, 1), (((2 * period - 1, 2), (1, 1)),))])
-            self.assertTrue(self.check_only(road, other))
-            shut = Road([((0, 1), (period, 1), (((1, 2), (1, 1)),))])
-            walker = exception(road, shut)
-            self.assertEqual(worth(walker[0]) % period, 1)
-            self.assertIs(is_inside(road, shut), False)
+        for place in ((0, 1), (1, 1), (2, 1), (-1, 1), (-7, 1), (999999999999, 1)):
+            for period, moment in ((5, 1), (5, 3), (997, 0), (10 ** 12 - 11, 10 ** 11)):
+                begin = pair((moment - Fraction(1, 2)) % period)
+                other = Road([(place, (period, 1), ((begin, (1, 1)),))])
+                start, slowness = exception(road, other)
+                self.assertTrue(self.check_only(road, other))
+                self.assertEqual((worth(start) + worth(slowness) * worth(place)) % period, moment)
+                self.assertIs(is_inside(road, other), False)
 
     def check_only(self, road, other):
         """Whether the exception is one; for roads with too many ways to try all."""
@@ -344,7 +354,8 @@ class Needless(unittest.TestCase):
     def test_too_wide_without_a_gate(self):
         # With the gate at 2 nobody gets any further; without it the gates behind it leave rows by the millions.
         million = 10 ** 12
-        plans = [(0, million, [(1, million - 1)]), (1, million, [(1, million - 1)]), (2, million, [(10 ** 11, million)])]
+        plans = [(0, million, [(1, million - 1)]), (1, million, [(1, million - 1)])]
+        plans.append((2, million, [(10 ** 11, million)]))
         nobody = Road([gate_of(plan) for plan in plans])
         self.assertEqual(needless(nobody), self.expected(nobody))
         fine = nobody.put(((3, 1), (1, 10 ** 6), (((0, 1), (1, 10 ** 6)),)))

@@ -191,7 +191,8 @@ class FirstStart(unittest.TestCase):
     def test_ends_of_intervals(self):
         road, little = two_plain(), Fraction(1, 10 ** 60)
         for turns in (0, 1, -1, 10 ** 90):
-            for since, expected in ((0, 0), (Fraction(1, 2), Fraction(1, 2)), (Fraction(1, 2) + little, 2), (-little, 0)):
+            half = Fraction(1, 2)
+            for since, expected in ((0, 0), (half, half), (half + little, 2), (-little, 0)):
                 result = first_start(road, (1, 2), since=pair(since + 2 * turns))
                 self.assertEqual(result, pair(expected + 2 * turns))
 

@@ -71,7 +71,8 @@ class Gates(TextCase):
         for _ in range(600):
             text = rng.choice(RIGHT_GATES[:10])
             at, sign = rng.randrange(len(text)), rng.choice(" 0123456789/+-every")
-            changed = rng.choice([text[:at] + text[at + 1:], text[:at] + sign + text[at:], text[:at] + sign + text[at + 1:]])
+            before, after = text[:at], text[at + 1:]
+            changed = rng.choice([before + after, before + sign + text[at:], before + sign + after])
             try:
                 gate = parse_gate(changed)
             except ParseError:
@@ -168,8 +169,8 @@ class Yards(TextCase):
         self.check_wrong(parse_yard, "\n", 0)
 
     def test_wrong_rows(self):
-        for row in ("", "road", "road ", "road  a", " road a", "road a ", "road A", "road a1", "road abcdefghi", "roads a",
-                    "Road a", "a", "road a b", "wrong", "0 every 2", "0 every 2 1+1 ", "none"):
+        for row in ("", "road", "road ", "road  a", " road a", "road a ", "road A", "road a1", "road abcdefghi",
+                    "roads a", "Road a", "a", "road a b", "wrong", "0 every 2", "0 every 2 1+1 ", "none"):
             self.check_wrong(parse_yard, row + "\n", 0)
             self.check_wrong(parse_yard, "road b\n" + row + "\n", 1)
             self.check_wrong(parse_yard, "road b\n" + ROW.format(0) + row + "\nroad c\n", 2)

@@ -130,6 +130,9 @@ class Commands(YardCase):
         self.assertEqual(yard.road("a"), Road([*PAIR, ((-1, 2), (2, 1), (((1, 1), (1, 1)),))]))
         self.check_fails(yard, ("put", "b", WRONG), UnknownRoad, name="b")
         self.check_fails(yard, ("put", "a", WRONG), InvalidGate, position=0)
+        seven = ((9, 1), (9, 1), tuple([((k, 1), (1, 2)) for k in range(7)]))
+        self.check_fails(yard, ("put", "a", seven), InvalidGate, position=0)
+        self.check_fails(yard, ("road", "b", [plain(0), seven]), InvalidGate, position=1)
         self.check_fails(yard, ("put", "a", plain(1)), SamePlace, place=(1, 1))
         yard.apply(("road", "full", [plain(k) for k in range(8)]))
         self.check_fails(yard, ("put", "full", WRONG), CapacityExceeded, capacity=8)
@@ -227,12 +230,14 @@ class Batches(YardCase):
         yard = yard_with("a")
         self.check_error(lambda: yard.apply_all([("drop", "x"), ("jump",), ()]), InvalidCommand, first="jump")
         self.check_error(lambda: yard.apply_all([("drop", "x"), (), ("jump",)]), InvalidCommand, first=None)
-        self.check_error(lambda: yard.apply_all([("road", "A", [WRONG]), ("drop", "a", "b")]), InvalidCommand, first="drop")
+        late = [("road", "A", [WRONG]), ("drop", "a", "b")]
+        self.check_error(lambda: yard.apply_all(late), InvalidCommand, first="drop")
         self.check_error(lambda: yard.apply_all([("drop", "x"), ("drop", "y")]), UnknownRoad, name="x")
 
     def test_later_commands_see_earlier_ones(self):
         yard = yard_with(*"abcdef")
-        yard.apply_all([("drop", "a"), ("road", "g", []), ("put", "g", plain(4)), ("strike", "g", (4, 1)), ("drop", "g")])
+        gates = [("put", "g", plain(4)), ("strike", "g", (4, 1))]
+        yard.apply_all([("drop", "a"), ("road", "g", []), *gates, ("drop", "g")])
         self.assertEqual(yard.names(), ["b", "c", "d", "e", "f"])
         self.check_error(lambda: yard.apply_all([("drop", "b"), ("drop", "b")]), UnknownRoad, name="b")
 

@@ -12,8 +12,9 @@ from tests.gate_samples import plain
 # Each function with its arguments; those behind a star are keyword-only.
 FUNCTIONS = {
     "rationals": "fraction(num, den=1); add(one, other); subtract(one, other); multiply(one, other); "
-                 "divide(one, other); is_less(one, other); total(row, *, start=(0, 1)); floor_of(one); ceiling_of(one); "
-                 "remainder(one, period); common_divisor(one, other); format_fraction(one); parse_fraction(text)",
+                 "divide(one, other); is_less(one, other); total(row, *, start=(0, 1)); floor_of(one); "
+                 "ceiling_of(one); remainder(one, period); common_divisor(one, other); format_fraction(one); "
+                 "parse_fraction(text)",
     "lattices": "congruence_basis(values); congruence_solution(values, target); floor_sum(count, slope, offset)",
     "gates": "is_gate(gate); normal_gate(gate); is_open(gate, moment); window(gate, number); window_at(gate, moment); "
              "next_open(gate, moment); delayed_gate(gate, delay)",
